@@ -1,0 +1,1 @@
+"""Rules that tell how many boxes are wanted."""

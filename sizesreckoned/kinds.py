@@ -1,0 +1,69 @@
+"""What integers, numbers, sizes and lots are, and sums of numbers."""
+
+from math import gcd
+
+
+def is_whole(value, low):
+    """Tell whether the value is an integer from low on."""
+    return isinstance(value, int) and not isinstance(value, bool) and value >= low
+
+
+def is_whole_up_to(value, low, high):
+    """Tell whether the value is an integer from low to high."""
+    return is_whole(value, low) and value <= high
+
+
+def is_pair(value):
+    """Tell whether the value is a tuple of two."""
+    return isinstance(value, tuple) and len(value) == 2
+
+
+def is_number(value):
+    """Tell whether the value is a number (over, under) in least terms."""
+    if not is_pair(value):
+        return False
+    over, under = value
+    return is_whole(over, 0) and is_whole(under, 1) and gcd(over, under) == 1
+
+
+def is_size(value):
+    """Tell whether the value is a number above 0."""
+    return is_number(value) and value[0] > 0
+
+
+def is_size_up_to(value, box):
+    """Tell whether the value is a size no greater than the box."""
+    return is_size(value) and value[0] <= box * value[1]
+
+
+def is_lot(value):
+    """Tell whether the value is a lot, of whatever sizes."""
+    if not isinstance(value, tuple):
+        return False
+    if not all([is_pair(part) and is_size(part[0]) and is_whole(part[1], 1) for part in value]):
+        return False
+    return len({size for size, _ in value}) == len(value)
+
+
+def is_lot_up_to(value, box):
+    """Tell whether the value is a lot of sizes no greater than the box."""
+    return is_lot(value) and all([is_size_up_to(size, box) for size, _ in value])
+
+
+def lowest(over, under):
+    """Return over / under as a number."""
+    shared = gcd(over, under)
+    return (over // shared, under // shared)
+
+
+def added(parts):
+    """Return the sum of the parts (over, under) as a number."""
+    if not parts:
+        return (0, 1)
+    if len(parts) == 1:
+        return lowest(parts[0][0], parts[0][1])
+    # Both halves apart keep the integers short for as long as can be.
+    middle = len(parts) // 2
+    over, under = added(parts[:middle])
+    more, below = added(parts[middle:])
+    return lowest(over * below + more * under, under * below)

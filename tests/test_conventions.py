@@ -1,0 +1,115 @@
+"""Section 2: how functions are called, what they leave as it was; and the interface at the end."""
+
+import ast
+import inspect
+import unittest
+from importlib import import_module
+from pathlib import Path
+
+from sizesreckoned.greatest import best_rules, greatest, shows_greatest
+from sizesreckoned.rules import Rule, filled
+from sizesreckoned.sound import judged, most, plain, shows_judged
+from tests.checking import HALF, THIRDS, Checks
+from tests.reckoning import some_texts
+
+PACKAGE = Path(__file__).parent.parent / "sizesreckoned"
+FUNCTIONS = {
+    "rules": {"filled": ["lot"]},
+    "sound": {"judged": ["rule"], "shows_judged": ["rule", "value"], "most": ["rule", "size"], "plain": ["rule"]},
+    "greatest": {"greatest": ["rule"], "shows_greatest": ["rule", "value"], "best_rules": ["box", "bound"]},
+}
+METHODS = {"worth": ["size"], "reckoned": ["lot"], "boxes": ["lot"], "times": ["many"],
+           "with_worth": ["number", "worth"]}
+
+
+class Interface(Checks):
+
+    def test_functions(self):
+        for name, functions in FUNCTIONS.items():
+            module = import_module(f"sizesreckoned.{name}")
+            for function, names in functions.items():
+                found = getattr(module, function)
+                self.assertEqual(found.__module__, module.__name__)
+                self.assertEqual(list(inspect.signature(found).parameters), names)
+
+    def test_methods(self):
+        self.assertEqual(Rule.__module__, "sizesreckoned.rules")
+        self.assertEqual(list(inspect.signature(Rule).parameters), ["text"])
+        for method, names in METHODS.items():
+            self.assertIn(method, vars(Rule))
+            self.assertEqual(list(inspect.signature(vars(Rule)[method]).parameters), ["self", *names])
+        self.assertEqual(sorted(vars(Rule(HALF))), ["bound", "box", "steps", "text"])
+
+    def test_arguments_by_name(self):
+        half = Rule(text=HALF)
+        lot = (((1, 1), 3),)
+        self.same([half.worth(size=(1, 1)), half.reckoned(lot=lot), half.boxes(lot=lot), filled(lot=lot)],
+                  [1, 3, 2, (3, 1)])
+        self.assertEqual(half.times(many=2).with_worth(worth=0, number=1).text, "box 2\nbound 4\nfrom 1 2\nbeyond 1 0")
+        self.assertIs(shows_judged(value=judged(rule=half), rule=half), True)
+        self.same([most(size=(1, 1), rule=half), plain(rule=half).text], [1, HALF])
+        self.assertIs(shows_greatest(value=greatest(rule=half), rule=half), True)
+        self.same(best_rules(bound=2, box=2), (HALF,))
+
+    def test_equal_calls_return_equal_results(self):
+        for text in [HALF, THIRDS, *some_texts(81, 40, 5, crumb=True)]:
+            self.same(judged(Rule(text)), judged(Rule(text)))
+            self.assertEqual(plain(Rule(text)), plain(Rule(text)))
+            if judged(Rule(text))[0] == "sound":
+                self.same(greatest(Rule(text)), greatest(Rule(text)))
+                self.same(most(Rule(text), (1, 2)), most(Rule(text), (1, 2)))
+        self.same(best_rules(4, 8), best_rules(4, 8))
+
+    def test_rules_are_left_as_they_were(self):
+        for text in [HALF, THIRDS, *some_texts(82, 40, 5)]:
+            rule = Rule(text)
+            before = [rule.text, rule.box, rule.bound, rule.steps]
+            judged(rule)
+            most(rule, (1, 2))
+            plain(rule)
+            if judged(rule)[0] == "sound":
+                greatest(rule)
+            if len(rule) > 0:
+                rule.with_worth(0, 7)
+            rule.times(2)
+            self.same([rule.text, rule.box, rule.bound, rule.steps], before)
+
+    def test_values_are_left_as_they_were(self):
+        half = Rule(HALF)
+        lots = [[((1, 1), 3)], ([(1, 1), 3],)]
+        for value in (["sound", [0, 0, 1, 2, 2]], ("broken", lots)):
+            shows_judged(half, value)
+            shows_greatest(half, value)
+        self.same(lots, [[((1, 1), 3)], ([(1, 1), 3],)])
+
+
+class Files(unittest.TestCase):
+    """What can be counted of the rules of the language."""
+
+    def test_lines_and_signs(self):
+        for path in sorted(PACKAGE.iterdir()):
+            if path.name == "__pycache__":
+                continue
+            self.assertEqual(path.suffix, ".py")
+            text = path.read_text(encoding="utf-8")
+            self.assertTrue(all(sign == "\n" or " " <= sign <= "~" for sign in text), path.name)
+            self.assertTrue(text.endswith("\n"))
+            self.assertLessEqual(len(text.split("\n")), 399, path.name)
+            self.assertLessEqual(max(len(line) for line in text.split("\n")), 120, path.name)
+
+    def test_functions_are_short(self):
+        for path in sorted(PACKAGE.glob("*.py")):
+            for node in ast.walk(ast.parse(path.read_text(encoding="utf-8"))):
+                if isinstance(node, ast.FunctionDef):
+                    self.assertLessEqual(node.end_lineno - node.lineno + 1, 40, node.name)
+
+    def test_imports(self):
+        for path in sorted(PACKAGE.glob("*.py")):
+            for node in ast.walk(ast.parse(path.read_text(encoding="utf-8"))):
+                self.assertNotIsInstance(node, ast.Import)
+                if isinstance(node, ast.ImportFrom):
+                    self.assertTrue(node.level == 0 and (node.module == "math" or node.module.startswith(PACKAGE.name)))
+
+
+if __name__ == "__main__":
+    unittest.main()
