@@ -1,17 +1,12 @@
 """Whether no right rule is better, and all best rules of small boxes."""
 
 from sizesreckoned.errors import BadBound, BadBox
-from sizesreckoned.rules import Rule, rule_text, worth_in
+from sizesreckoned.rules import Rule, rule_text, size_in, worth_in
 from sizesreckoned.sound import judged, plain, sound_table
 from sizesreckoned.kinds import is_number, is_size_up_to, is_whole_up_to, lowest
 
 WIDEST_SOUGHT = 4
 HIGHEST_SOUGHT = 8
-
-
-def size_in(space):
-    """Return a size in the space."""
-    return lowest(space, 2)
 
 
 def greatest(rule):

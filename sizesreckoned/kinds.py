@@ -67,3 +67,11 @@ def added(parts):
     over, under = added(parts[:middle])
     more, below = added(parts[middle:])
     return lowest(over * below + more * under, under * below)
+
+
+def reduced(numbers):
+    """Return the integers, not all 0, divided by what divides all of them."""
+    shared = 0
+    for number in numbers:
+        shared = gcd(shared, number)
+    return [number // shared for number in numbers]

@@ -1,7 +1,7 @@
 """Rules: how they are written, and what they reckon."""
 
 from sizesreckoned.errors import BadLot, BadMany, BadRule, BadSize, BadWorth, Great, NoStep
-from sizesreckoned.kinds import added, is_lot, is_lot_up_to, is_size_up_to, is_whole, is_whole_up_to
+from sizesreckoned.kinds import added, is_lot, is_lot_up_to, is_size_up_to, is_whole, is_whole_up_to, lowest
 
 WIDEST = 60
 HIGHEST = 999999999
@@ -71,6 +71,11 @@ def place_of(step):
 def space_of(size):
     """Return the space in which the size is."""
     return 2 * (size[0] // size[1]) + (1 if size[1] > 1 else 0)
+
+
+def size_in(space):
+    """Return a size in the space."""
+    return lowest(space, 2)
 
 
 def worth_in(rule, space):

@@ -125,9 +125,9 @@ def all_worths(box, bound):
     return product(range(bound + 1), repeat=2 * box)
 
 
-def some_text(chance, widest, crumb=False):
-    """Return the text of a rule by chance; its bound is close to the most that fits."""
-    box = chance.randint(1, widest)
+def some_text(chance, widest, crumb=False, box=None):
+    """Return the text of a rule by chance, of this box if one is told; its bound is close to the most that fits."""
+    box = box or chance.randint(1, widest)
     lines = []
     rising = chance.random() < 0.6
     for place in range(1, 2 * box + 1):
@@ -154,3 +154,85 @@ def some_size(chance, box):
     over = chance.randint(1, box) * under + chance.choice((-1, 0, 1, chance.randint(0, under)))
     size = Fraction(min(max(over, 1), box * under), under)
     return (size.numerator, size.denominator)
+
+
+def tells(text, lot):
+    """Return how many boxes the rule of the text tells of the lot."""
+    return -(-reckons(text, lot) // parts(text)[1])
+
+
+def share_of(text, size):
+    """Return the worth of a size as a share of the bound."""
+    return Fraction(worth(parts(text)[2], size), parts(text)[1])
+
+
+def tells_more(text, others, lot):
+    """Tell whether the lot is one of which the rule tells more boxes than each other one."""
+    sizes = [Fraction(*size) for size, _ in lot]
+    assert len(set(sizes)) == len(sizes) and all(0 < size <= parts(text)[0] for size in sizes)
+    assert all(type(many) is int and many > 0 for _, many in lot)
+    return all(tells(text, lot) > tells(other, lot) for other in others)
+
+
+def mixture_covers(text, others, times):
+    """Tell whether the others, so many times, come for each size to as much as the rule as many times."""
+    for size in halves(parts(text)[0]):
+        mixed = sum(many * share_of(other, size) for other, many in zip(others, times))
+        if mixed < sum(times) * share_of(text, size):
+            return False
+    return sum(times) > 0 and min(times) >= 0
+
+
+def all_patterns(box, things):
+    """Return all patterns of the things."""
+    rows = product(*[range(box // size + 1) for size, _ in things])
+    return [row for row in rows if 0 < sum(many * size for many, (size, _) in zip(row, things)) <= box]
+
+
+def full_ones(box, things):
+    """Return how many patterns there are beside which no further thing fits."""
+    filled = [sum(many * size for many, (size, _) in zip(row, things)) for row in all_patterns(box, things)]
+    return sum(fill + things[0][0] > box for fill in filled)
+
+
+def shares_cover(box, things, worth_, rows):
+    """Tell whether the patterns, so many times as their shares, cover all things and come to the worth."""
+    patterns = [pattern for pattern, _ in rows]
+    shares = [Fraction(*share) for _, share in rows]
+    if len(set(patterns)) != len(patterns) or min(shares) <= 0 or sum(shares) != worth_:
+        return False
+    for pattern in patterns:
+        fill = sum(many * size for many, (size, _) in zip(pattern, things))
+        if len(pattern) != len(things) or min(pattern) < 0 or not 0 < fill <= box:
+            return False
+    covered = [sum(pattern[at] * share for pattern, share in zip(patterns, shares)) for at in range(len(things))]
+    return all(many <= found for found, (_, many) in zip(covered, things))
+
+
+def rule_reckons(box, things, worth_, text):
+    """Tell whether the text is that of a sound rule of the box that reckons the things so."""
+    lot = [((size, 1), many) for size, many in things]
+    return parts(text)[0] == box and is_sound(text) and Fraction(reckons(text, lot), parts(text)[1]) == worth_
+
+
+def fewest_boxes(box, things):
+    """Return the fewest boxes for all things, by going through all ways to put one behind the other."""
+    sizes = [size for size, many in things for _ in range(many)]
+
+    @lru_cache(maxsize=None)
+    def put(at, fills):
+        if at == len(sizes):
+            return len(fills)
+        ways = [put(at + 1, tuple(sorted([*fills, sizes[at]])))]
+        for place, fill in enumerate(fills):
+            if fill + sizes[at] <= box:
+                ways.append(put(at + 1, tuple(sorted([*fills[:place], fill + sizes[at], *fills[place + 1:]]))))
+        return min(ways)
+
+    return put(0, ())
+
+
+def some_things(chance, box, most_sizes, most_many):
+    """Return things for the box by chance."""
+    sizes = sorted(chance.sample(range(1, box + 1), min(box, chance.randint(1, most_sizes))))
+    return tuple((size, chance.randint(1, most_many)) for size in sizes)

@@ -5,18 +5,28 @@ import inspect
 import unittest
 from importlib import import_module
 from pathlib import Path
+from random import Random
 
+from sizesreckoned.beside import needed, shows_needed, shows_within, within
+from sizesreckoned.boxes import shows_wanted, wanted
 from sizesreckoned.greatest import best_rules, greatest, shows_greatest
+from sizesreckoned.making import behind, finer, rounding
+from sizesreckoned.mixed import best, shows_best
 from sizesreckoned.rules import Rule, filled
 from sizesreckoned.sound import judged, most, plain, shows_judged
 from tests.checking import HALF, THIRDS, Checks
-from tests.reckoning import some_texts
+from tests.reckoning import some_text, some_texts
 
 PACKAGE = Path(__file__).parent.parent / "sizesreckoned"
 FUNCTIONS = {
     "rules": {"filled": ["lot"]},
     "sound": {"judged": ["rule"], "shows_judged": ["rule", "value"], "most": ["rule", "size"], "plain": ["rule"]},
     "greatest": {"greatest": ["rule"], "shows_greatest": ["rule", "value"], "best_rules": ["box", "bound"]},
+    "making": {"rounding": ["steps"], "behind": ["one", "other"], "finer": ["rule", "many"]},
+    "mixed": {"best": ["box", "things"], "shows_best": ["box", "things", "value"]},
+    "boxes": {"wanted": ["box", "things"], "shows_wanted": ["box", "things", "value"]},
+    "beside": {"within": ["one", "other"], "shows_within": ["one", "other", "value"],
+               "needed": ["rules", "number"], "shows_needed": ["rules", "number", "value"]},
 }
 METHODS = {"worth": ["size"], "reckoned": ["lot"], "boxes": ["lot"], "times": ["many"],
            "with_worth": ["number", "worth"]}
@@ -51,6 +61,15 @@ class Interface(Checks):
         self.assertIs(shows_greatest(value=greatest(rule=half), rule=half), True)
         self.same(best_rules(bound=2, box=2), (HALF,))
 
+    def test_arguments_by_name_of_rules_made_of_rules_and_told_things(self):
+        half, things = rounding(steps=1), ((1, 3),)
+        self.assertEqual([half, behind(other=half, one=half)], [Rule(HALF), Rule(HALF)])
+        self.same(finer(many=3, rule=half).text, "box 6\nbound 2\nfrom 3 1\nbeyond 3 2")
+        self.assertIs(shows_best(value=best(things=things, box=2), things=things, box=2), True)
+        self.assertIs(shows_wanted(value=wanted(things=things, box=2), things=things, box=2), True)
+        self.assertIs(shows_within(value=within(other=half, one=half), other=half, one=half), True)
+        self.assertIs(shows_needed(value=needed(number=1, rules=(half, half)), number=1, rules=(half, half)), True)
+
     def test_equal_calls_return_equal_results(self):
         for text in [HALF, THIRDS, *some_texts(81, 40, 5, crumb=True)]:
             self.same(judged(Rule(text)), judged(Rule(text)))
@@ -59,6 +78,21 @@ class Interface(Checks):
                 self.same(greatest(Rule(text)), greatest(Rule(text)))
                 self.same(most(Rule(text), (1, 2)), most(Rule(text), (1, 2)))
         self.same(best_rules(4, 8), best_rules(4, 8))
+
+    def test_equal_calls_of_rules_made_of_rules_and_told_things(self):
+        chance = Random(83)
+        for _ in range(40):
+            box = chance.randint(1, 8)
+            texts = [some_text(chance, box, box=box) for _ in range(3)]
+            made = [tuple(Rule(text) for text in texts) for _ in range(2)]
+            things = tuple((size, chance.randint(1, 2)) for size in range(max(1, box - 3), box + 1))
+            self.same(best(box, things), best(box, tuple(list(things))))
+            self.same(wanted(box, things), wanted(box, tuple(list(things))))
+            self.same(within(*made[0][:2]), within(*made[1][:2]))
+            for number in range(3):
+                self.same(needed(made[0], number), needed(made[1], number))
+            self.assertEqual(finer(made[0][0], 2), finer(made[1][0], 2))
+        self.assertEqual([rounding(9), behind(rounding(1), rounding(1))], [rounding(9), behind(Rule(HALF), Rule(HALF))])
 
     def test_rules_are_left_as_they_were(self):
         for text in [HALF, THIRDS, *some_texts(82, 40, 5)]:
@@ -72,6 +106,10 @@ class Interface(Checks):
             if len(rule) > 0:
                 rule.with_worth(0, 7)
             rule.times(2)
+            finer(rule, 2)
+            within(rule, rule.times(3))
+            needed((rule, rule.times(3)), 0)
+            behind(Rule(f"box 1\nbound {rule.box}\nfrom 1 1"), rule)
             self.same([rule.text, rule.box, rule.bound, rule.steps], before)
 
     def test_values_are_left_as_they_were(self):

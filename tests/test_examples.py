@@ -24,6 +24,26 @@ EXAMPLES = r"""
 [('greatest',), 'room', True, False]
 >>> [best_rules(2, 2) == (half.text,), len(best_rules(1, 2)), best_rules(3, 1), best_rules(3, 2)]
 [True, 0, (), ('box 3\nbound 2\nbeyond 1 1\nfrom 2 2',)]
+
+>>> from sizesreckoned.making import behind, finer, rounding
+>>> [rounding(1) == half, rounding(2).text.split('\n')[2:], judged(rounding(7))[0], greatest(rounding(5))]
+[True, ['from 1 2', 'beyond 1 3', 'from 2 4', 'beyond 2 6'], 'sound', ('greatest',)]
+>>> [behind(half, half) == half, finer(half, 3).text.split('\n')]
+[True, ['box 6', 'bound 2', 'from 3 1', 'beyond 3 2']]
+
+>>> from sizesreckoned.boxes import shows_wanted, wanted
+>>> from sizesreckoned.mixed import best, shows_best
+>>> [best(2, ((1, 3),))[:3], wanted(2, ((1, 3),))[0], best(10, ((4, 4), (5, 2), (6, 1)))[1]]
+[('best', (3, 2), (((2,), (3, 2)),)), 2, (7, 2)]
+>>> [shows_best(2, ((1, 3),), ('best', (3, 2), (((2,), (3, 2)),), half.text)), wanted(10, ((4, 4), (5, 2), (6, 1)))[::2]]
+[True, (4, 0)]
+
+>>> from sizesreckoned.beside import needed, shows_needed, within
+>>> low, high = Rule('box 2\nbound 1\nfrom 2 1'), Rule('box 2\nbound 1\nbeyond 1 1')
+>>> [within(low, high), within(high, low)[0], needed((low, high), 0)[0], needed((low, high), 1)[0]]
+[('within',), 'more', 'idle', 'needed']
+>>> shows_needed((half, high), 0, ('needed', (((1, 1), 1),)))
+True
 """
 
 
@@ -38,7 +58,7 @@ class Examples(unittest.TestCase):
         return results.attempted
 
     def test_of_the_document(self):
-        self.assertEqual(self.check(EXAMPLES, "DOC"), 11)
+        self.assertEqual(self.check(EXAMPLES, "DOC"), 22)
 
     def test_of_the_readme(self):
         text = (Path(__file__).parent.parent / "README.md").read_text(encoding="utf-8")
