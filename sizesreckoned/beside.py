@@ -1,7 +1,7 @@
 """Rules of one box beside one another: which one tells more boxes, and whether one is needed."""
 
 from sizesreckoned.errors import BadRules, NoRule, OtherBox
-from sizesreckoned.rules import Rule, size_in, worth_in
+from sizesreckoned.rules import Rule, size_in
 from sizesreckoned.mixed import mixture
 from sizesreckoned.kinds import is_lot_up_to, is_pair, is_whole, is_whole_up_to, reduced
 
@@ -11,7 +11,7 @@ MOST_RULES = 4
 
 def surplus(one, other, space):
     """Return how much more one tells of the space than other, as shares of the bounds, times both bounds."""
-    return worth_in(one, space) * other.bound - worth_in(other, space) * one.bound
+    return one.worths[space] * other.bound - other.worths[space] * one.bound
 
 
 def spaces_of(rule):

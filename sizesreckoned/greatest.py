@@ -1,7 +1,7 @@
 """Whether no right rule is better, and all best rules of small boxes."""
 
 from sizesreckoned.errors import BadBound, BadBox
-from sizesreckoned.rules import Rule, rule_text, size_in, worth_in
+from sizesreckoned.rules import Rule, rule_text, size_in
 from sizesreckoned.sound import judged, plain, sound_table
 from sizesreckoned.kinds import is_number, is_size_up_to, is_whole_up_to, lowest
 
@@ -11,8 +11,12 @@ HIGHEST_SOUGHT = 8
 
 def greatest(rule):
     """Tell whether no sound rule is better, otherwise a size that can be reckoned more."""
-    table = sound_table(rule)
-    worths = [worth_in(rule, space) for space in range(len(table))]
+    return room_of(rule, sound_table(rule))
+
+
+def room_of(rule, table):
+    """Return what greatest tells of the rule, which has this least table."""
+    worths = rule.worths
     for space in range(1, len(table)):
         if table[space] > worths[space]:
             return ("room", size_in(space), (table[space], 1))
@@ -30,7 +34,7 @@ def shows_greatest(rule, value):
     """Tell whether the value is right as what greatest tells of the rule."""
     table = sound_table(rule)
     if value == ("greatest",):
-        return greatest(rule) == value
+        return room_of(rule, table) == value
     if not isinstance(value, tuple) or len(value) != 3 or value[0] != "room":
         return False
     _, size, worth = value

@@ -5,7 +5,8 @@ from math import gcd
 
 def is_whole(value, low):
     """Tell whether the value is an integer from low on."""
-    return isinstance(value, int) and not isinstance(value, bool) and value >= low
+    # For isinstance a bool would be an int, too.
+    return type(value) is int and value >= low
 
 
 def is_whole_up_to(value, low, high):
@@ -23,7 +24,7 @@ def is_number(value):
     if not is_pair(value):
         return False
     over, under = value
-    return is_whole(over, 0) and is_whole(under, 1) and gcd(over, under) == 1
+    return type(over) is int and type(under) is int and over >= 0 and under > 0 and gcd(over, under) == 1
 
 
 def is_size(value):
@@ -40,14 +41,15 @@ def is_lot(value):
     """Tell whether the value is a lot, of whatever sizes."""
     if not isinstance(value, tuple):
         return False
-    if not all([is_pair(part) and is_size(part[0]) and is_whole(part[1], 1) for part in value]):
-        return False
+    for part in value:
+        if not is_pair(part) or not is_size(part[0]) or not is_whole(part[1], 1):
+            return False
     return len({size for size, _ in value}) == len(value)
 
 
 def is_lot_up_to(value, box):
     """Tell whether the value is a lot of sizes no greater than the box."""
-    return is_lot(value) and all([is_size_up_to(size, box) for size, _ in value])
+    return is_lot(value) and all([over <= box * under for (over, under), _ in value])
 
 
 def lowest(over, under):

@@ -78,13 +78,15 @@ def size_in(space):
     return lowest(space, 2)
 
 
-def worth_in(rule, space):
-    """Return the worth of all sizes in the space, 0 for the space 0."""
+def worths_of(steps, box):
+    """Return for each space of the box the worth of all sizes in it, 0 for the space 0."""
+    worths = []
     worth = 0
-    for step in rule.steps:
-        if place_of(step) <= space:
-            worth = step[2]
-    return worth
+    for step in steps:
+        worths.extend([worth] * (place_of(step) - len(worths)))
+        worth = step[2]
+    worths.extend([worth] * (2 * box + 1 - len(worths)))
+    return tuple(worths)
 
 
 def is_step(value):
@@ -103,7 +105,7 @@ def rule_text(box, bound, steps):
 
 
 class Rule:
-    """A rule, as its text tells it."""
+    """A rule, as its text tells it; worths are those of its spaces, which all that it reckons goes by."""
 
     def __init__(self, text):
         if not isinstance(text, str):
@@ -113,6 +115,7 @@ class Rule:
         self.box = head_of(lines, 0, "box", WIDEST)
         self.bound = head_of(lines, 1, "bound", HIGHEST)
         self.steps = steps_of(lines, self.box)
+        self.worths = worths_of(self.steps, self.box)
 
     def __eq__(self, other):
         return isinstance(other, Rule) and self.text == other.text
@@ -128,13 +131,13 @@ class Rule:
         """Return what a thing of this size is reckoned."""
         if not is_size_up_to(size, self.box):
             raise BadSize(size)
-        return worth_in(self, space_of(size))
+        return self.worths[space_of(size)]
 
     def reckoned(self, lot):
         """Return what all things of the lot are reckoned together."""
         if not is_lot_up_to(lot, self.box):
             raise BadLot(lot)
-        return sum([many * worth_in(self, space_of(size)) for size, many in lot])
+        return sum([many * self.worths[space_of(size)] for size, many in lot])
 
     def boxes(self, lot):
         """Return how many boxes the rule tells of the lot."""

@@ -1,7 +1,7 @@
 """Whether a rule is right for all lots, and the most that lots are reckoned."""
 
 from sizesreckoned.errors import BadSize, Broken, Endless
-from sizesreckoned.rules import Rule, filled, place_of, rule_text, space_of, worth_in
+from sizesreckoned.rules import Rule, filled, place_of, rule_text, space_of
 from sizesreckoned.kinds import is_lot, is_pair, is_size_up_to, is_whole
 
 
@@ -12,33 +12,50 @@ def comes_to(one, other):
 
 def crumb_worth(rule):
     """Return the worth of the least sizes, of which endlessly many fit a box."""
-    return worth_in(rule, 1)
+    return rule.worths[1]
+
+
+def most_within(box, steps):
+    """Return for each whole number up to the box the most that things within it are reckoned by the steps.
+
+    Things are within it if the numbers of their steps come to no more than it, all together.
+    """
+    alone = [0] * (box + 1)
+    for _, start, worth in steps:
+        alone[start] = max(alone[start], worth)
+    table = [0]
+    kept = []
+    for whole in range(1, box + 1):
+        ways = [table[whole - start] + worth for start, worth in kept]
+        reached = max([table[whole - 1], *ways])
+        # A thing that is reckoned no more than lesser ones in its place need not be looked at again.
+        if alone[whole] > reached:
+            reached = alone[whole]
+            kept.append((whole, reached))
+        table.append(reached)
+    return table
 
 
 def least_table(rule):
     """Return for each space the most that a lot within it is reckoned, crumbs left aside."""
-    last = 2 * rule.box
-    table = [0] * (last + 1)
-    for space in range(last + 1):
-        # A lot within a space is within each greater one.
-        table[space] = max(table[max(space - 1, 0)], table[space])
-        for step in rule.steps:
-            behind = comes_to(space, place_of(step))
-            if space < behind <= last:
-                table[behind] = max(table[behind], table[space] + step[2])
+    from_on = most_within(rule.box, [step for step in rule.steps if step[0] == "from"])
+    all_steps = most_within(rule.box, rule.steps)
+    table = [0]
+    for whole in range(rule.box):
+        table.append(all_steps[whole])
+        # What is beyond its numbers is within the next whole number, too, if these come to less.
+        table.append(max(all_steps[whole], from_on[whole + 1]))
     return table
 
 
-def ways_into(rule, table, space):
-    """Return (number of a step, space ahead of it) for all steps by which the table comes to this space."""
-    ways = []
+def last_way_into(rule, table, space):
+    """Return (number of a step, space ahead of it) for the first step by which the table comes to this space."""
     for number, step in enumerate(rule.steps):
         place = place_of(step)
         for ahead in (space - place, space - place + 1):
-            if 0 <= ahead < space and comes_to(ahead, place) == space:
-                if table[ahead] + step[2] == table[space]:
-                    ways.append((number, ahead))
-    return ways
+            if 0 <= ahead < space and comes_to(ahead, place) == space and table[ahead] + step[2] == table[space]:
+                return number, ahead
+    return None
 
 
 def steps_taken(rule, table):
@@ -49,7 +66,7 @@ def steps_taken(rule, table):
         if table[space] == table[space - 1]:
             space -= 1
         else:
-            number, space = ways_into(rule, table, space)[0]
+            number, space = last_way_into(rule, table, space)
             taken[number] += 1
     return taken
 
@@ -111,11 +128,13 @@ def holds(rule, table):
     """Tell whether the table holds for the rule."""
     if table[-1] > rule.bound:
         return False
-    for space, entry in enumerate(table):
-        for step in rule.steps:
-            behind = comes_to(space, place_of(step))
-            if behind < len(table) and table[behind] < entry + step[2]:
-                return False
+    for step in rule.steps:
+        ahead, behind = table, table[place_of(step):]
+        if step[0] == "beyond":
+            # The spaces 2 * N and 2 * N + 1 come to the same one with it, and the entry of the second is no less.
+            ahead, behind = table[1::2], behind[::2]
+        if not all([entry + step[2] <= later for entry, later in zip(ahead, behind)]):
+            return False
     return True
 
 

@@ -105,6 +105,20 @@ def table_holds(text, table):
     return min(table) >= 0
 
 
+def least_table_that_holds(text):
+    """Return the least table that holds but for the bound, step by step and space by space; without crumbs."""
+    box, _, steps = parts(text)
+    table = [0] * (2 * box + 1)
+    for i in range(2 * box + 1):
+        table[i] = max(table[max(i - 1, 0)], table[i])
+        for word, start, step_worth in steps:
+            j = 2 * start if word == "from" else 2 * start + 1
+            k = i + j - 1 if i % 2 == 1 and j % 2 == 1 else i + j
+            if i < k <= 2 * box:
+                table[k] = max(table[k], table[i] + step_worth)
+    return tuple(table)
+
+
 def text_of(box, bound, worths):
     """Return the text with one step for each space from 1 on."""
     lines = [f"box {box}", f"bound {bound}"]

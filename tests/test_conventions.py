@@ -48,7 +48,8 @@ class Interface(Checks):
         for method, names in METHODS.items():
             self.assertIn(method, vars(Rule))
             self.assertEqual(list(inspect.signature(vars(Rule)[method]).parameters), ["self", *names])
-        self.assertEqual(sorted(vars(Rule(HALF))), ["bound", "box", "steps", "text"])
+        for name in ("bound", "box", "steps", "text"):
+            self.assertIn(name, vars(Rule(HALF)))
 
     def test_arguments_by_name(self):
         half = Rule(text=HALF)
