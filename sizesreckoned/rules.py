@@ -105,7 +105,7 @@ def rule_text(box, bound, steps):
 
 
 class Rule:
-    """A rule, as its text tells it; worths are those of its spaces, which all that it reckons goes by."""
+    """A rule, as its text tells it; its worths are those of the sizes in each space."""
 
     def __init__(self, text):
         if not isinstance(text, str):

@@ -27,7 +27,7 @@ def most_within(box, steps):
     kept = []
     for whole in range(1, box + 1):
         ways = [table[whole - start] + worth for start, worth in kept]
-        reached = max([table[whole - 1], *ways])
+        reached = max([0, *ways])
         # A thing that is reckoned no more than lesser ones in its place need not be looked at again.
         if alone[whole] > reached:
             reached = alone[whole]

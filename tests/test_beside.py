@@ -344,6 +344,8 @@ class NeededWrong(Checks):
             self.assertIs(shows_needed(rules, 0, ["idle", times]), False)
             self.assertIs(shows_needed(rules, 0, ("needed", times)), False)
             self.assertIs(shows_needed(rules, 0, ("idle", times, 1)), False)
+            for word in ("within", "Idle", "", None, 1, ("idle",), ["idle"]):
+                self.assertIs(shows_needed(rules, 0, (word, times)), False)
         self.same([shows_needed(rules, 2, ("idle", (0, 1))), shows_needed(rules, 2, ("idle", (1, 0)))], [True, False])
         self.same([shows_needed(rules, 2, ("idle", (1, 1))), shows_needed(rules, 1, ("idle", (1, 1)))], [False, False])
 

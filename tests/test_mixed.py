@@ -182,6 +182,12 @@ class Shown(Checks):
         for wrong in [*any_values(), (14, 4), (7, 3), (8, 2), (4, 1), (3, 1), [7, 2], (7, 2, 1), 7, (7, True), "7/2",
                       (7 * 10 ** 5000 + 1, 2 * 10 ** 5000)]:
             self.assertIs(shows_best(box, things, (word, wrong, rows, text)), False, wrong)
+        for box_of_one, things_of_one in [(60, ((60, 99),)), (1, ((1, 1),)), (60, ((1, 1),))]:
+            value = best(box_of_one, things_of_one)
+            for at in (0, 1):
+                wrong = tuple(True if at == place and part == 1 else part for place, part in enumerate(value[1]))
+                told = (word, wrong, *value[2:])
+                self.assertIs(shows_best(box_of_one, things_of_one, told), value[1][at] != 1)
         # Rows that cover more come to more, which no rule reckons.
         more = ((rows[0][0], number(Fraction(*rows[0][1]) + Fraction(1, 2))), *rows[1:])
         self.assertIs(shows_best(box, things, (word, (4, 1), more, text)), False)
