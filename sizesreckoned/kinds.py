@@ -1,6 +1,8 @@
-"""What integers, numbers, sizes and lots are, and sums of numbers."""
+"""What integers, names, numbers, sizes and lots are, how they are written, and sums of numbers."""
 
 from math import gcd
+
+LONGEST_NAME = 8
 
 
 def is_whole(value, low):
@@ -12,6 +14,13 @@ def is_whole(value, low):
 def is_whole_up_to(value, low, high):
     """Tell whether the value is an integer from low to high."""
     return is_whole(value, low) and value <= high
+
+
+def is_name(value):
+    """Tell whether the value is a name."""
+    if not isinstance(value, str) or len(value) > LONGEST_NAME:
+        return False
+    return value.isascii() and value.isalpha() and value.islower()
 
 
 def is_pair(value):
@@ -50,6 +59,36 @@ def is_lot(value):
 def is_lot_up_to(value, box):
     """Tell whether the value is a lot of sizes no greater than the box."""
     return is_lot(value) and all([over <= box * under for (over, under), _ in value])
+
+
+def written_integer(word):
+    """Return the integer that the word writes as Python does, None if it writes none."""
+    digits = word.removeprefix("-")
+    if not digits.isascii() or not digits.isdigit():
+        return None
+    if digits.startswith("0") and word != "0":
+        return None
+    # Digits are taken piece by piece, since int takes only some thousand of them at once.
+    padded = "0" * (-len(digits) % 64) + digits
+    number = 0
+    for at in range(0, len(padded), 64):
+        number = number * 10 ** 64 + int(padded[at:at + 64])
+    return number if digits == word else -number
+
+
+def written_size(word):
+    """Return the size that the word writes, None if it writes none."""
+    over, slash, under = word.partition("/")
+    if under == "1":
+        return None
+    size = (written_integer(over), written_integer(under) if slash == "/" else 1)
+    return size if is_size(size) else None
+
+
+def size_text(size):
+    """Return how the size is written."""
+    over, under = size
+    return f"{over}" if under == 1 else f"{over}/{under}"
 
 
 def lowest(over, under):

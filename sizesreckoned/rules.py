@@ -26,12 +26,17 @@ def whole_of(word, low, high):
     return number
 
 
+def whole_behind(word, line, high):
+    """Return the integer from 1 on of a line like `box 3`, None if it is no such line of this word."""
+    words = line.split(" ")
+    if len(words) != 2 or words[0] != word:
+        return None
+    return whole_of(words[1], 1, high)
+
+
 def head_of(lines, at, word, high):
-    """Return the integer of a line like `box 3`."""
-    words = lines[at].split(" ") if at < len(lines) else []
-    number = None
-    if len(words) == 2 and words[0] == word:
-        number = whole_of(words[1], 1, high)
+    """Return the integer of the line like `box 3` that is to stand there."""
+    number = whole_behind(word, lines[at], high) if at < len(lines) else None
     if number is None:
         raise BadRule(at + 1)
     return number
@@ -104,6 +109,14 @@ def rule_text(box, bound, steps):
     return "\n".join(lines)
 
 
+def with_worths(rule, changes):
+    """Return the rule in which steps have other worths, told as (number of the step, worth)."""
+    steps = list(rule.steps)
+    for number, worth in changes:
+        steps[number] = (steps[number][0], steps[number][1], worth)
+    return Rule(rule_text(rule.box, rule.bound, steps))
+
+
 class Rule:
     """A rule, as its text tells it; its worths are those of the sizes in each space."""
 
@@ -158,6 +171,4 @@ class Rule:
             raise NoStep(number)
         if not is_whole_up_to(worth, 0, HIGHEST):
             raise BadWorth(worth)
-        steps = list(self.steps)
-        steps[number] = (steps[number][0], steps[number][1], worth)
-        return Rule(rule_text(self.box, self.bound, steps))
+        return with_worths(self, [(number, worth)])

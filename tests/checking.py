@@ -2,6 +2,9 @@
 
 import unittest
 
+from sizesreckoned.desk import Desk
+from sizesreckoned.docks import Dock
+from sizesreckoned.errors import BadBox
 from sizesreckoned.rules import Rule
 
 HALF = "box 2\nbound 2\nfrom 1 1\nbeyond 1 2"
@@ -22,7 +25,7 @@ def any_values():
         None, True, False, 0, -1, -999999999, "", "a", "box 2", (), [], {}, {"a": 1}, (0,), (1,), [1, 2],
         (True, 1), (1, True), (1, 0), (2, 2), (2, 4), (0, 1), (0, 2), (-1, 2), (1, -2), (1, 2, 3), ("1", 2), ("1", "2"),
         (None, None), ([], 1), (1, {}), (((1, 2), 1), 1), nested(30), [nested(29)], {"a": nested(28)}, Rule(HALF),
-        (Rule(HALF), 1), (1, Rule(HALF)),
+        (Rule(HALF), 1), (1, Rule(HALF)), Dock(2), (Dock(2), 1), [Desk("dock 2")], BadBox(1), {"a": [Dock(2), None]},
     ]
 
 

@@ -9,7 +9,11 @@ from random import Random
 
 from sizesreckoned.beside import needed, shows_needed, shows_within, within
 from sizesreckoned.boxes import shows_wanted, wanted
+from sizesreckoned.choosing import cheapest, shows_cheapest
+from sizesreckoned.desk import Desk
+from sizesreckoned.docks import Dock
 from sizesreckoned.greatest import best_rules, greatest, shows_greatest
+from sizesreckoned.journals import journal, read_journal
 from sizesreckoned.making import behind, finer, rounding
 from sizesreckoned.mixed import best, shows_best
 from sizesreckoned.rules import Rule, filled
@@ -27,9 +31,20 @@ FUNCTIONS = {
     "boxes": {"wanted": ["box", "things"], "shows_wanted": ["box", "things", "value"]},
     "beside": {"within": ["one", "other"], "shows_within": ["one", "other", "value"],
                "needed": ["rules", "number"], "shows_needed": ["rules", "number", "value"]},
+    "choosing": {"cheapest": ["rule", "offers"], "shows_cheapest": ["rule", "offers", "value"]},
+    "journals": {"journal": ["dock"], "read_journal": ["text"]},
 }
-METHODS = {"worth": ["size"], "reckoned": ["lot"], "boxes": ["lot"], "times": ["many"],
-           "with_worth": ["number", "worth"]}
+METHODS = {
+    Rule: {"worth": ["size"], "reckoned": ["lot"], "boxes": ["lot"], "times": ["many"],
+           "with_worth": ["number", "worth"]},
+    Dock: {"told": [], "size": ["name"], "why": ["number"], "come": ["name", "size"], "go": ["name"], "learn": ["rule"],
+           "forget": ["number"], "undo": [], "redo": [], "trial": [], "keep": [], "tried": ["look", "keep"],
+           "copy": []},
+    Desk: {"say": ["line"]},
+}
+CREATED = [(Rule, "sizesreckoned.rules", ["text"], HALF, ["text", "box", "bound", "steps"]),
+           (Dock, "sizesreckoned.docks", ["box"], 2, ["box", "things", "rules", "done"]),
+           (Desk, "sizesreckoned.desk", ["text"], "dock 2", ["dock"])]
 
 
 class Interface(Checks):
@@ -43,13 +58,19 @@ class Interface(Checks):
                 self.assertEqual(list(inspect.signature(found).parameters), names)
 
     def test_methods(self):
-        self.assertEqual(Rule.__module__, "sizesreckoned.rules")
-        self.assertEqual(list(inspect.signature(Rule).parameters), ["text"])
-        for method, names in METHODS.items():
-            self.assertIn(method, vars(Rule))
-            self.assertEqual(list(inspect.signature(vars(Rule)[method]).parameters), ["self", *names])
-        for name in ("bound", "box", "steps", "text"):
-            self.assertIn(name, vars(Rule(HALF)))
+        for kind, methods in METHODS.items():
+            for method, names in methods.items():
+                self.assertIn(method, vars(kind))
+                self.assertEqual(list(inspect.signature(vars(kind)[method]).parameters), ["self", *names])
+        keep = inspect.signature(Dock.tried).parameters["keep"]
+        self.assertEqual([keep.kind, keep.default], [keep.KEYWORD_ONLY, False])
+
+    def test_classes(self):
+        for kind, module, names, value, attributes in CREATED:
+            self.assertEqual(kind.__module__, module)
+            self.assertEqual(list(inspect.signature(kind).parameters), names)
+            for name in attributes:
+                self.assertIn(name, vars(kind(value)))
 
     def test_arguments_by_name(self):
         half = Rule(text=HALF)
@@ -70,6 +91,48 @@ class Interface(Checks):
         self.assertIs(shows_wanted(value=wanted(things=things, box=2), things=things, box=2), True)
         self.assertIs(shows_within(value=within(other=half, one=half), other=half, one=half), True)
         self.assertIs(shows_needed(value=needed(number=1, rules=(half, half)), number=1, rules=(half, half)), True)
+
+    def test_arguments_by_name_of_the_live_part(self):
+        dock = Dock(box=2)
+        for told in (dock.come(name="b", size=(1, 1)), dock.come(size=(3, 2), name="a"), dock.go(name="b"),
+                     dock.learn(rule=Rule(text=HALF)), dock.undo(), dock.redo(),
+                     dock.tried(look=lambda held: held.keep())):
+            self.assertIsNone(told)
+        self.same([dock.size(name="a"), dock.why(number=0), dock.tried(keep=True, look=len)], [(3, 2), (("a", 2),), 1])
+        text = journal(dock=dock)
+        self.assertEqual(read_journal(text=text), dock)
+        self.same(Desk(text=text).say(line="things"), "a:3/2")
+        self.assertIsNone(dock.forget(number=0))
+        thirds, offers = Rule(THIRDS), ((0, 0, 5), (1, 1, 2))
+        self.assertIs(shows_cheapest(value=cheapest(offers=offers, rule=thirds), offers=offers, rule=thirds), True)
+
+    def test_methods_of_which_nothing_is_told_return_none(self):
+        dock = Dock(2)
+        for call, told in [(dock.come, ["a", (1, 1)]), (dock.go, ["a"]), (dock.learn, [Rule(HALF)]), (dock.forget, [0]),
+                           (dock.undo, []), (dock.redo, [])]:
+            self.assertIsNone(call(*told))
+        with dock.trial():
+            self.assertIsNone(dock.keep())
+
+    def test_returned_sequences_are_tuples(self):
+        dock = read_journal("dock 2\ncome a 1\nlearn box:2 bound:2 from:1:1")
+        told = cheapest(Rule(THIRDS), ((0, 0, 5), (1, 1, 2)))
+        for value in (dock.things, dock.things[0], dock.rules, dock.told(), dock.why(0), dock.why(0)[0], dock.size("a"),
+                      told, *told[2:], *told[4], told[4][0][1]):
+            self.assertIs(type(value), tuple)
+
+    def test_equal_calls_of_docks_and_choices(self):
+        dock = read_journal("dock 2\ncome a 1\nlearn box:2 bound:2 from:1:1")
+        before = journal(dock)
+        for _ in range(3):
+            self.same([dock.told(), dock.why(0), dock.size("a"), journal(dock), len(dock), "a" in dock],
+                      [(1, None), (("a", 1),), (1, 1), before, 1, True])
+            self.assertEqual(dock.copy(), read_journal(before))
+        for text in some_texts(84, 40, 5, crumb=True):
+            numbers = [number for number, step in enumerate(Rule(text).steps) if step[2] > 0]
+            offers = tuple((number, 0, 1) for number in numbers[:5])
+            if offers:
+                self.same(cheapest(Rule(text), offers), cheapest(Rule(text), tuple(list(offers))))
 
     def test_equal_calls_return_equal_results(self):
         for text in [HALF, THIRDS, *some_texts(81, 40, 5, crumb=True)]:
@@ -110,6 +173,14 @@ class Interface(Checks):
             finer(rule, 2)
             within(rule, rule.times(3))
             needed((rule, rule.times(3)), 0)
+            if len(rule) > 0 and rule.steps[0][2] > 0:
+                cheapest(rule, ((0, 0, 1),))
+            if judged(rule)[0] == "sound":
+                dock = Dock(rule.box)
+                dock.learn(rule)
+                dock.come("a", (1, 2))
+                dock.told()
+                dock.forget(0)
             behind(Rule(f"box 1\nbound {rule.box}\nfrom 1 1"), rule)
             self.same([rule.text, rule.box, rule.bound, rule.steps], before)
 

@@ -44,6 +44,25 @@ EXAMPLES = r"""
 [('within',), 'more', 'idle', 'needed']
 >>> shows_needed((half, high), 0, ('needed', (((1, 1), 1),)))
 True
+
+>>> from sizesreckoned.choosing import cheapest
+>>> cheapest(thirds, ((0, 0, 5), (1, 1, 2)))[:3]
+('choice', 5, (0,))
+
+>>> from sizesreckoned.docks import Dock
+>>> dock = Dock(2)
+>>> [dock.come('a', (1, 1)), dock.come('b', (11, 10)), dock.come('c', (11, 10)), dock.told(), dock.learn(half), dock.told(), dock.why(0)]
+[None, None, None, (2, None), None, (3, 0), (('a', 1), ('b', 2), ('c', 2))]
+>>> [dock.go('a'), dock.told(), dock.undo(), dock.undo(), dock.told(), len(dock), 'c' in dock, dock.done]
+[None, (2, None), None, None, (2, None), 3, True, 3]
+
+>>> from sizesreckoned.desk import Desk
+>>> from sizesreckoned.journals import journal
+>>> desk = Desk(journal(dock) + '\nlearn box:2 bound:1 beyond:1:1')
+>>> [desk.say(line) for line in ('told', 'things', 'go a', 'told', 'why 0', 'undo', 'forget 0', 'told')]
+['2 -', 'a:1 b:11/10 c:11/10', 'ok', '2 -', 'b:1 c:1', 'ok', 'ok', '2 -']
+>>> journal(desk.dock).split('\n')[3:]
+['come c 11/10', 'learn box:2 bound:1 beyond:1:1', 'forget 0']
 """
 
 
@@ -58,11 +77,11 @@ class Examples(unittest.TestCase):
         return results.attempted
 
     def test_of_the_document(self):
-        self.assertEqual(self.check(EXAMPLES, "DOC"), 22)
+        self.assertEqual(self.check(EXAMPLES, "DOC"), 33)
 
     def test_of_the_readme(self):
         text = (Path(__file__).parent.parent / "README.md").read_text(encoding="utf-8")
-        self.assertGreater(self.check(text.replace("```", ""), "README"), 9)
+        self.assertGreater(self.check(text.replace("```", ""), "README"), 40)
 
 
 if __name__ == "__main__":
