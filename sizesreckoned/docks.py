@@ -50,7 +50,8 @@ class Trial:
 
     def __init__(self, dock):
         self.dock = dock
-        self.kept = False
+        # None until the block is kept, since `__exit__` asks of attributes only whether they are None.
+        self.kept = None
         self.outer = None
         self.things = ()
         self.rules = ()
@@ -71,7 +72,7 @@ class Trial:
 
     def __exit__(self, kind, value, trace):
         dock = self.dock
-        if kind is not None or not self.kept:
+        if kind is not None or self.kept is None:
             dock.things = self.things
             dock.rules = self.rules
             dock.done = self.done

@@ -213,6 +213,25 @@ class Files(unittest.TestCase):
                 if isinstance(node, ast.FunctionDef):
                     self.assertLessEqual(node.end_lineno - node.lineno + 1, 40, node.name)
 
+    def test_what_exits_ask(self):
+        def is_of_the_form(test):
+            if isinstance(test, ast.BoolOp):
+                return all(is_of_the_form(part) for part in test.values)
+            if isinstance(test, ast.UnaryOp):
+                return isinstance(test.op, ast.Not) and is_of_the_form(test.operand)
+            return (isinstance(test, ast.Compare) and isinstance(test.left, (ast.Name, ast.Attribute))
+                    and len(test.ops) == 1 and isinstance(test.ops[0], (ast.Is, ast.IsNot))
+                    and isinstance(test.comparators[0], ast.Constant) and test.comparators[0].value is None)
+
+        tests = []
+        for path in sorted(PACKAGE.glob("*.py")):
+            for node in ast.walk(ast.parse(path.read_text(encoding="utf-8"))):
+                if isinstance(node, ast.FunctionDef) and node.name == "__exit__":
+                    tests.extend(part.test for part in ast.walk(node) if isinstance(part, ast.If))
+        self.assertGreater(len(tests), 0)
+        for test in tests:
+            self.assertTrue(is_of_the_form(test), ast.unparse(test))
+
     def test_imports(self):
         for path in sorted(PACKAGE.glob("*.py")):
             for node in ast.walk(ast.parse(path.read_text(encoding="utf-8"))):
